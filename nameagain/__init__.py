@@ -1,0 +1,1 @@
+"""Nameagain: few names given again, when nothing is left of who bore them."""
