@@ -1,9 +1,9 @@
 """A day: what may be about of a name, and what may come of it."""
 
 from nameagain.errors import NoDeeds, NoStand
-from nameagain.habits import HOUSE, is_saying, is_told_way, sent_to, way_number
+from nameagain.habits import HOUSE, is_saying, is_told_way, sent_to
 from nameagain.kinds import is_between, is_truth, is_tuple_of
-from nameagain.nights import ASK, BURNT, LETTER, NO_NOTE, NONE, nights, refuse_many, sendings
+from nameagain.nights import ASK, BURNT, LETTER, MOST_UNDER_WAY, NO_NOTE, NONE, deed_rows, evenings_behind, nights
 
 
 def words_of(habits, number):
@@ -68,6 +68,11 @@ def is_stand(habits, thing):
     return are_notes(habits, notes) and are_under_way(habits, under)
 
 
+def is_short_stand(habits, thing):
+    """Whether a thing is a stand with no more under way than runs and lots let be."""
+    return is_stand(habits, thing) and len(thing[1]) <= MOST_UNDER_WAY
+
+
 def bare(habits):
     """The stand without a note and without anything under way."""
     return ((NO_NOTE,) * len(habits), ())
@@ -93,6 +98,18 @@ def look_deeds(habits, letters, asks):
         raise NoDeeds("letters and asks are rising tuples of texts of folk to whom the house has a way")
 
 
+def is_heard_word(habits, thing):
+    """Whether a thing is a word with the text of the saying folk that says it."""
+    return is_tuple_of(thing, 2) and is_saying(habits, thing[0]) and thing[1] in (BURNT, NONE)
+
+
+def are_heard(habits, thing):
+    """Whether a thing may be what the house hears of saying folk on a day."""
+    if not isinstance(thing, tuple) or not all([is_heard_word(habits, word) for word in thing]):
+        return False
+    return list(thing) == sorted(thing)
+
+
 def mornings(habits, stand):
     """All tuples (heard, stand) that may come of a stand over a night, sorted, each once."""
     look_stand(habits, stand)
@@ -103,9 +120,4 @@ def evenings(habits, stand, *, letters=(), asks=()):
     """All stands that may come of a stand by what the house sends, sorted, each once."""
     look_stand(habits, stand)
     look_deeds(habits, letters, asks)
-    notes, under = stand
-    deeds = [(LETTER, text) for text in letters] + [(ASK, text) for text in asks]
-    things = [(way_number(habits, HOUSE, text), word, 0, 0, False) for word, text in deeds]
-    rows = sendings(habits, things)
-    refuse_many([under + row for row in rows])
-    return sorted([(notes, tuple(sorted(under + row))) for row in rows])
+    return sorted(evenings_behind(stand, deed_rows(habits, letters, asks)))

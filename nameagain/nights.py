@@ -14,10 +14,15 @@ NO_NOTE = -1
 MOST_UNDER_WAY = 6
 
 
+def refuse_long(many):
+    """Refuse where so many things would be under way at once."""
+    if many > MOST_UNDER_WAY:
+        raise TooMany(0)
+
+
 def refuse_many(unders):
     """Refuse where one of these rows of things under way is too long."""
-    if max([len(under) for under in unders]) > MOST_UNDER_WAY:
-        raise TooMany(0)
+    refuse_long(max([len(under) for under in unders]))
 
 
 def put_together(rows, choices):
@@ -32,6 +37,12 @@ def sendings(habits, things):
         loses = habits.ways[thing[0]][4]
         rows = put_together(rows, [(thing,), ()] if loses else [(thing,)])
     return rows
+
+
+def deed_rows(habits, letters, asks):
+    """All rows of things that may be under way of what the house sends."""
+    deeds = [(LETTER, text) for text in letters] + [(ASK, text) for text in asks]
+    return sendings(habits, [(way_number(habits, HOUSE, text), word, 0, 0, False) for word, text in deeds])
 
 
 def thing_choices(habits, thing):
@@ -118,15 +129,27 @@ def folk_days(habits, number, note, came, left):
     return days
 
 
+def all_folk_days(habits, notes, came, left):
+    """What each folk's day may leave, a list for each; refused where all of it is too much."""
+    days = [folk_days(habits, number, note, came, left) for number, note in enumerate(notes)]
+    # What one folk does hinders no other, so the longest rows of all may well meet.
+    refuse_long(len(left) + sum([max([len(row) for end, row in rows]) for rows in days]))
+    return days
+
+
 def stands_behind(habits, notes, came, left):
     """All stands of the evening, the house's deeds ahead, of what came and what is left."""
     stands = [((), left)]
-    for number, note in enumerate(notes):
-        days = folk_days(habits, number, note, came, left)
-        stands = sorted({(ends + (end,), tuple(sorted(under + row)))
-                         for ends, under in stands for end, row in days})
-        refuse_many([under for ends, under in stands])
-    return stands
+    for day in all_folk_days(habits, notes, came, left):
+        stands = [(ends + (end,), under + row) for ends, under in stands for end, row in day]
+    return sorted([(ends, tuple(sorted(under))) for ends, under in stands])
+
+
+def evenings_behind(stand, rows):
+    """The stands of the evening, where one of these rows of the house's things is put to a stand."""
+    notes, under = stand
+    refuse_many([under + row for row in rows])
+    return [(notes, tuple(sorted(under + row))) for row in rows]
 
 
 def nights(habits, stand):

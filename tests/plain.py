@@ -85,3 +85,43 @@ def plain_evenings(habits, stand, letters, asks):
     sent += [(numbers[text], "ask", 0, 0, False) for text in asks]
     found = {(stand[0], tuple(sorted(list(stand[1]) + kept))) for kept in lost_rows(habits, sent)}
     return sorted(found)
+
+
+def plain_next(habits, stand, day):
+    """All stands that come of a stand by what was heard and done, as a set; nothing is refused."""
+    heard, letters, asks = day
+    return {evening for words, morning in plain_mornings(habits, stand) if words == heard
+            for evening in plain_evenings(habits, morning, letters, asks)}
+
+
+def plain_lots(habits, book):
+    """The lots of all days of a book as sorted tuples; behind the first one that is refused its error's name alone."""
+    lot = plain_evenings(habits, ((-1,) * len(habits), ()), *book[0][1:])
+    lots = [tuple(lot)]
+    for day in book[1:]:
+        lot = sorted(set().union(*[plain_next(habits, stand, day) for stand in lot]))
+        if not lot:
+            return lots + ["NoRun"]
+        if len(lot) > 300 or max(len(stand[1]) for stand in lot) > 6:
+            return lots + ["TooMany"]
+        lots.append(tuple(lot))
+    return lots
+
+
+def plain_runs(habits, book):
+    """All runs of a book, one by one; no stand of them is looked at."""
+    runs = [(stand,) for stand in plain_evenings(habits, ((-1,) * len(habits), ()), *book[0][1:])]
+    for day in book[1:]:
+        runs = [run + (stand,) for run in runs for stand in plain_next(habits, run[-1], day)]
+    return runs
+
+
+def plain_fails(habits, book, run):
+    """The first day on which a tuple of stands, as many as days, is no run of a book; None where it's one."""
+    coming = plain_evenings(habits, ((-1,) * len(habits), ()), *book[0][1:])
+    for at in range(len(book)):
+        if at > 0:
+            coming = plain_next(habits, run[at - 1], book[at])
+        if run[at] not in coming:
+            return at
+    return None

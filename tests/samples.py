@@ -30,6 +30,50 @@ def triple(steps=2, loses=False, kind="saying"):
     return Habits(tuple((text, kind, 3) for text in texts), ways, steps=steps)
 
 
+def several(*texts, kind="saying", keep=1, ways=()):
+    """Habits of folk with ways from and to the house of one day each, and these ways besides."""
+    ends = tuple(one for text in texts for one in (way("house", text), way(text, "house")))
+    return Habits(tuple((text, kind, keep) for text in texts), ends + ways)
+
+
+def letter(at, days=0, step=0, copy=False):
+    """A letter under way on the way of this number."""
+    return (at, "letter", days, step, copy)
+
+
+def ask(at, days=0, copy=False):
+    """An ask under way."""
+    return (at, "ask", days, 0, copy)
+
+
+def said(at, word, days=0):
+    """A word under way to the house."""
+    return (at, word, days, 0, False)
+
+
+def day(heard=(), letters=(), asks=()):
+    """A day of a book."""
+    return (heard, letters, asks)
+
+
+QUIET = day()
+
+
+def sends(*letters):
+    """A day on which nothing is heard and these letters are sent."""
+    return day(letters=letters)
+
+
+def wants(*asks):
+    """A day on which nothing is heard and these asks are sent."""
+    return day(asks=asks)
+
+
+def hears(*heard):
+    """A day on which this is heard and nothing is done."""
+    return day(heard)
+
+
 def number(habits, source, target):
     """The number of a way, looked up by its ends."""
     return [(one[0], one[1]) for one in habits.ways].index((source, target))

@@ -5,15 +5,7 @@ import unittest
 from nameagain.days import bare, evenings, is_stand
 from nameagain.errors import NoDeeds, NoStand, TooMany
 from nameagain.habits import Habits
-from samples import any_things, number, one_folk, pair, triple, way
-
-
-def letter(at, days=0, step=0, copy=False):
-    return (at, "letter", days, step, copy)
-
-
-def ask(at, days=0, copy=False):
-    return (at, "ask", days, 0, copy)
+from samples import any_things, ask, letter, number, one_folk, pair, triple, way
 
 
 THREE = Habits(

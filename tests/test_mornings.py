@@ -5,19 +5,7 @@ import unittest
 from nameagain.days import bare, is_stand, mornings
 from nameagain.errors import NoStand, TooMany
 from nameagain.habits import Habits
-from samples import any_things, number, one_folk, pair, triple, way
-
-
-def letter(at, days=0, step=0, copy=False):
-    return (at, "letter", days, step, copy)
-
-
-def ask(at, days=0, copy=False):
-    return (at, "ask", days, 0, copy)
-
-
-def said(at, word, days=0):
-    return (at, word, days, 0, False)
+from samples import any_things, ask, letter, number, one_folk, pair, said, triple, way
 
 
 class Mornings(unittest.TestCase):
