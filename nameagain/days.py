@@ -2,7 +2,7 @@
 
 from nameagain.errors import NoDeeds, NoStand
 from nameagain.habits import HOUSE, is_saying, is_told_way, sent_to
-from nameagain.kinds import is_between, is_truth, is_tuple_of
+from nameagain.kinds import is_between, is_truth, is_tuple_of, rises
 from nameagain.nights import ASK, BURNT, LETTER, MOST_UNDER_WAY, NO_NOTE, NONE, deed_rows, evenings_behind, nights
 
 
@@ -87,9 +87,7 @@ def look_stand(habits, stand):
 def are_deeds(habits, thing):
     """Whether a thing is a rising tuple of texts of folk to whom the house has a way."""
     texts = sent_to(habits)
-    if not isinstance(thing, tuple) or not all([text in texts for text in thing]):
-        return False
-    return all([text < later for text, later in zip(thing, thing[1:])])
+    return isinstance(thing, tuple) and all([text in texts for text in thing]) and rises(thing)
 
 
 def look_deeds(habits, letters, asks):

@@ -19,3 +19,8 @@ def is_truth(thing):
 def is_tuple_of(thing, many):
     """Whether a thing is a tuple of so many things."""
     return isinstance(thing, tuple) and len(thing) == many
+
+
+def rises(row):
+    """Whether each thing of a row stands behind the one ahead of it in order, none twice."""
+    return all([one < later for one, later in zip(row, row[1:])])

@@ -3,6 +3,7 @@
 from nameagain.days import are_heard, is_short_stand, look_deeds
 from nameagain.errors import NoHeard, NoLot
 from nameagain.habits import is_told_way
+from nameagain.kinds import rises
 from nameagain.nights import NO_NOTE, all_folk_days, comings, heard_of
 from nameagain.runs import look_book
 from nameagain.walks import MOST_STANDS, as_lot, next_stands, walk
@@ -12,9 +13,7 @@ def is_lot(habits, thing):
     """Whether any thing is a lot."""
     if not isinstance(thing, tuple) or not 1 <= len(thing) <= MOST_STANDS:
         return False
-    if not all([is_short_stand(habits, stand) for stand in thing]):
-        return False
-    return all([stand < later for stand, later in zip(thing, thing[1:])])
+    return all([is_short_stand(habits, stand) for stand in thing]) and rises(thing)
 
 
 def look_lot(habits, lot):

@@ -137,12 +137,17 @@ def all_folk_days(habits, notes, came, left):
     return days
 
 
-def stands_behind(habits, notes, came, left):
-    """All stands of the evening, the house's deeds ahead, of what came and what is left."""
+def put_days(days, left):
+    """All stands that these days of all folk make with what is left."""
     stands = [((), left)]
-    for day in all_folk_days(habits, notes, came, left):
+    for day in days:
         stands = [(ends + (end,), under + row) for ends, under in stands for end, row in day]
     return sorted([(ends, tuple(sorted(under))) for ends, under in stands])
+
+
+def stands_behind(habits, notes, came, left):
+    """All stands of the evening, the house's deeds ahead, of what came and what is left."""
+    return put_days(all_folk_days(habits, notes, came, left), left)
 
 
 def evenings_behind(stand, rows):

@@ -6,7 +6,7 @@ Stands, days (heard, letters, asks) and books are taken as right here: who hands
 from nameagain.days import bare
 from nameagain.errors import NoRun, TooMany
 from nameagain.habits import HOUSE
-from nameagain.nights import comings, deed_rows, evenings_behind, folk_days, heard_of, stands_behind
+from nameagain.nights import all_folk_days, comings, deed_rows, evenings_behind, folk_days, heard_of, put_days
 
 MOST_STANDS = 300
 
@@ -17,13 +17,25 @@ def refuse_more(stands):
         raise TooMany(0)
 
 
+def few_stands_behind(habits, notes, came, left):
+    """All stands of the evening, of what came and what is left; refused where they're more than a lot has."""
+    days = all_folk_days(habits, notes, came, left)
+    many = 1
+    for rows in days:
+        many = many * len(rows)
+    # No two of them are alike, so there's no need to make them all to count them.
+    if many > MOST_STANDS:
+        raise TooMany(0)
+    return put_days(days, left)
+
+
 def heard_so(habits, stand, heard):
     """The stands that are with what was heard among the mornings of a stand, each once."""
     notes, under = stand
     behind = {}
     for came, left in comings(habits, under):
         if heard_of(habits, came) == heard:
-            for morning in stands_behind(habits, notes, came, left):
+            for morning in few_stands_behind(habits, notes, came, left):
                 behind[morning] = True
             refuse_more(behind)
     return list(behind)

@@ -109,10 +109,10 @@ def plain_lots(habits, book):
 
 
 def plain_runs(habits, book):
-    """All runs of a book, one by one; no stand of them is looked at."""
+    """All runs of a book, one by one, always in the same order; no stand of them is looked at."""
     runs = [(stand,) for stand in plain_evenings(habits, ((-1,) * len(habits), ()), *book[0][1:])]
     for day in book[1:]:
-        runs = [run + (stand,) for run in runs for stand in plain_next(habits, run[-1], day)]
+        runs = [run + (stand,) for run in runs for stand in sorted(plain_next(habits, run[-1], day))]
     return runs
 
 

@@ -3,7 +3,7 @@
 import inspect
 import unittest
 
-from nameagain import days, errors, habits, left, lots, runs
+from nameagain import asks, days, errors, habits, house, late, left, lots, runs
 
 FUNCTIONS = {
     days: {
@@ -32,6 +32,43 @@ FUNCTIONS = {
         "paper": "(habits, book)",
         "shows": "(habits, book, paper)",
     },
+    late: {
+        "late": "(habits, lot)",
+        "late_paper": "(habits, lot)",
+        "worst": "(habits, lot)",
+        "shows_late": "(habits, lot, paper)",
+    },
+    asks: {
+        "soonest": "(habits, lot)",
+        "fewest_asks": "(habits, lot)",
+        "plan": "(habits, lot, *, by='days')",
+        "net": "(habits, lot)",
+        "keeps": "(habits, lot, plan)",
+        "is_net": "(habits, lot, net)",
+    },
+}
+
+CLASSES = {
+    habits.Habits: {
+        "__init__": "(self, folk, ways, *, steps=1)",
+        "__eq__": "(self, other)",
+        "__len__": "(self)",
+    },
+    house.House: {
+        "__init__": "(self, habits, many=4)",
+        "__eq__": "(self, other)",
+        "__len__": "(self)",
+        "come": "(self, *, letters=())",
+        "go": "(self, name)",
+        "send": "(self, name, text)",
+        "ask": "(self, name, text)",
+        "back": "(self)",
+        "night": "(self, heard=())",
+        "day": "(self)",
+        "names": "(self)",
+        "lot": "(self, name)",
+        "twin": "(self)",
+    },
 }
 
 
@@ -43,10 +80,12 @@ class Interface(unittest.TestCase):
                 self.assertEqual(str(inspect.signature(function)), arguments)
                 self.assertEqual(function.__module__, module.__name__)
 
-    def test_habits(self):
-        self.assertEqual(str(inspect.signature(habits.Habits)), "(folk, ways, *, steps=1)")
-        self.assertEqual(habits.Habits.__module__, "nameagain.habits")
-        self.assertLessEqual({"__init__", "__eq__", "__len__"}, set(vars(habits.Habits)))
+    def test_classes(self):
+        for made, methods in CLASSES.items():
+            self.assertEqual(made.__module__, f"nameagain.{made.__name__.lower()}")
+            for name, arguments in methods.items():
+                self.assertIn(name, vars(made))
+                self.assertEqual(str(inspect.signature(getattr(made, name))), arguments)
 
     def test_fields_of_errors(self):
         for name, field in (("NoHabits", "where"), ("NoBook", "at"), ("NoTable", "at"), ("NoText", "line"),
