@@ -62,6 +62,12 @@ def stands_of(lot):
     return len(lot)
 
 
+def refuse_met(lots):
+    """Refuse lots that have more stands together than may be met."""
+    if sum([len(lot) for lot in lots]) > MOST_MET:
+        raise TooMany(0)
+
+
 def all_met(starts, steps, size, most=MOST_MET):
     """All that may come of the starts, in the order of its coming: a dict from each to what steps tell of it.
 

@@ -1,4 +1,4 @@
-"""Lots gone on from plainly, by what plain.py tells of stands: what lots met, lateness, plans and pairs are held to."""
+"""Lots gone on from plainly, by what plain.py tells of stands: lateness, plans, holds, and what parts two lots."""
 
 from itertools import product
 
@@ -18,6 +18,7 @@ class Plain:
         self.texts = sorted(way[1] for way in habits.ways if way[0] == "house")
         self.choices = [None] + self.texts
         self.mornings = {}
+        self.gone = {}
 
     def lot(self, stands):
         """The lot of these stands."""
@@ -112,3 +113,72 @@ class Plain:
         by_days = [n for n in range(days + 1) if ends[lot, n, many]]
         by_asks = [n for n in range(many + 1) if ends[lot, days, n]]
         return (by_days[0] if by_days else None), (by_asks[0] if by_asks else None)
+
+    def hold(self, stay, sendings):
+        """The least number of days behind whose nights a name is surely clear, or None."""
+        evenings, counted = {self.sent(self.bare, letters_on(sendings, 0))}, set()
+        for after in range(1, stay + 1):
+            counted |= evenings
+            mornings = {behind for lot in evenings for behind in self.heard(lot).values()}
+            evenings = {self.sent(lot, letters_on(sendings, after)) for lot in mornings}
+        graph = {}
+        for lot in evenings:
+            if lot not in graph:
+                graph.update(self.met(lot))
+        if sum(map(len, counted | set(graph))) > 400:
+            raise Much
+        days = [self.late(graph, lot) for lot in evenings]
+        return None if None in days else stay + max(days)
+
+    def steps(self, lot):
+        """The lots that come of a lot by each (letters, asks, heard), letters and asks of one text at most."""
+        if lot not in self.gone:
+            deeds = [((), ())] + [((text,), ()) for text in self.texts] + [((), (text,)) for text in self.texts]
+            self.gone[lot] = {(*deed, heard): behind for deed in deeds
+                              for heard, behind in self.heard(self.sent(lot, *deed)).items()}
+        return self.gone[lot]
+
+    def pairs(self, one, other, most=400):
+        """All pairs of lots that may come of two, with the steps that both can go."""
+        pairs = {}
+        waiting = [(one, other)]
+        while waiting:
+            pair = waiting.pop()
+            if pair not in pairs:
+                ahead, behind = map(self.steps, pair)
+                pairs[pair] = {step: (ahead[step], behind[step]) for step in ahead if step in behind}
+                waiting += pairs[pair].values()
+                if sum(len(first) + len(second) for first, second in pairs) > most:
+                    raise Much
+        return pairs
+
+    def least(self, pairs, pair, many, known):
+        """The first row in order of just so many steps that parts a pair, or None."""
+        if (pair, many) not in known:
+            known[pair, many] = self.first_row(pairs, pair, many, known)
+        return known[pair, many]
+
+    def first_row(self, pairs, pair, many, known):
+        if many == 0:
+            return () if (pair[0] == self.bare) != (pair[1] == self.bare) else None
+        for step in sorted(set(self.steps(pair[0])) | set(self.steps(pair[1]))):
+            row = () if many == 1 else None
+            if step in pairs[pair]:
+                row = self.least(pairs, pairs[pair][step], many - 1, known)
+            if row is not None:
+                return (step,) + row
+        return None
+
+    def parting(self, one, other):
+        """The least row that parts two lots: all rows of no step are gone through, then all of one, and so on."""
+        pairs, known = self.pairs(one, other), {}
+        for many in range(len(pairs) + 1):
+            row = self.least(pairs, (one, other), many, known)
+            if row is not None:
+                return row
+        return None
+
+
+def letters_on(sendings, after):
+    """The texts to which letters are sent so many days behind the coming."""
+    return tuple(text for day, text in sendings if day == after)

@@ -3,7 +3,7 @@
 import unittest
 
 from cases import Refused
-from exact import ASKS_400, ASKS_401, SLOW
+from exact import ASKS_400, ASKS_401, DEED_300, DEED_MORE, NOTED, SLOW
 from nameagain.asks import fewest_asks, keeps, net, plan, soonest
 from nameagain.errors import NoLot, TooMany
 from nameagain.habits import Habits
@@ -299,6 +299,21 @@ class Refusals(Refused):
                 self.refused(TooMany, 0, told, SLOW, lot)
         self.assertEqual(keeps(SLOW, six, ((six, None),)), (1, 0))
         self.assertIsNone(keeps(SLOW, six, ((six, "ann"),)))
+
+    def test_a_lot_behind_a_deed_of_just_300_stands_and_more(self):
+        plain = Plain(NOTED)
+        self.assertEqual(len(plain.asked(DEED_300, "ann")), 300)
+        self.assertLess(sum(map(len, plain.met(DEED_MORE))), 300)
+        self.assertEqual((soonest(NOTED, DEED_300), fewest_asks(NOTED, DEED_300)), (4, 0))
+        for told in self.TOLD:
+            self.refused(TooMany, 0, told, NOTED, DEED_MORE)
+        for lot, kept in ((DEED_300, (4, 1)), (DEED_MORE, None)):
+            made = {one: None for one in plain.met(lot) if one != plain.bare}
+            self.assertEqual(keeps(NOTED, lot, tuple(sorted(made.items()))), (4, 0))
+            made[lot] = "ann"
+            for behind in plain.nets_heard(plain.sent(DEED_300, (), ("ann",))).values():
+                made.update((one, None) for one in plain.met(behind) if one != plain.bare)
+            self.assertEqual(keeps(NOTED, lot, tuple(sorted(made.items()))), kept)
 
     def test_a_lot_met_that_would_be_none(self):
         six = (((1,), (said(1, "none"),) * 6),)

@@ -1,9 +1,9 @@
-"""The interface as far as it has landed: what exists, where, with which arguments and defaults."""
+"""The interface: what exists, where, with which arguments and defaults."""
 
 import inspect
 import unittest
 
-from nameagain import asks, days, errors, habits, house, late, left, lots, runs
+from nameagain import alike, asks, days, desk, errors, habits, house, late, left, lots, runs, tables, texts
 
 FUNCTIONS = {
     days: {
@@ -46,6 +46,24 @@ FUNCTIONS = {
         "keeps": "(habits, lot, plan)",
         "is_net": "(habits, lot, net)",
     },
+    tables: {
+        "look_table": "(habits, table)",
+        "hold": "(habits, thing)",
+        "fewest": "(habits, table)",
+        "fewest_paper": "(habits, table)",
+        "shows_fewest": "(habits, table, paper)",
+    },
+    alike: {
+        "parting": "(habits, one, other)",
+        "parts": "(habits, one, other, row)",
+    },
+    texts: {
+        "show_habits": "(habits)",
+        "read_habits": "(text)",
+        "show_heard": "(heard)",
+        "show_book": "(habits, book)",
+        "read_book": "(habits, text)",
+    },
 }
 
 CLASSES = {
@@ -68,6 +86,10 @@ CLASSES = {
         "names": "(self)",
         "lot": "(self, name)",
         "twin": "(self)",
+    },
+    desk.Desk: {
+        "__init__": "(self, text, many=4)",
+        "say": "(self, row)",
     },
 }
 

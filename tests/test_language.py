@@ -79,6 +79,43 @@ class Language(unittest.TestCase):
             names = {node.id for node in ast.walk(tree) if isinstance(node, ast.Name)}
             self.assertEqual([one for one in names if hasattr(builtins, one) and one not in ALLOWED], [], name)
 
+    def test_names_of_methods_and_attributes(self):
+        methods, attributes = set(), set()
+        for tree in self.trees.values():
+            for made in [node for node in ast.walk(tree) if isinstance(node, ast.ClassDef)]:
+                methods |= {node.name for node in made.body if isinstance(node, ast.FunctionDef)}
+                attributes |= {node.attr for node in ast.walk(made)
+                               if isinstance(node, ast.Attribute) and isinstance(node.ctx, ast.Store)}
+        self.assertEqual(methods & attributes, set())
+
+    def test_names_of_imports_and_classes_mean_nothing_else(self):
+        for name, tree in self.trees.items():
+            kept = {alias.name for node in tree.body if isinstance(node, ast.ImportFrom) for alias in node.names}
+            kept |= {node.name for node in tree.body if isinstance(node, ast.ClassDef)}
+            for function in [node for node in ast.walk(tree) if isinstance(node, (ast.FunctionDef, ast.Lambda))]:
+                inner = [node.id for node in ast.walk(function)
+                         if isinstance(node, ast.Name) and isinstance(node.ctx, ast.Store)]
+                inner += [node.arg for node in ast.walk(function) if isinstance(node, ast.arg)]
+                self.assertEqual(kept & set(inner), set(), name)
+
+    def test_one_lambda_on_a_line(self):
+        for name, tree in self.trees.items():
+            lines = [node.lineno for node in ast.walk(tree) if isinstance(node, ast.Lambda)]
+            self.assertEqual(len(lines), len(set(lines)), name)
+
+    def test_methods_of_builtin_values(self):
+        """Each method that is called is one that the rules let, or the package's own."""
+        let = set("""append clear copy count endswith extend find get index insert isalnum isalpha isdigit islower
+            isspace isupper items join keys ljust lower lstrip partition pop remove replace reverse rfind rjust
+            rpartition rsplit rstrip setdefault split splitlines startswith strip update upper values zfill
+            bit_length""".split())
+        own = {node.name for tree in self.trees.values() for made in tree.body if isinstance(made, ast.ClassDef)
+               for node in made.body if isinstance(node, ast.FunctionDef)}
+        for name, tree in self.trees.items():
+            called = {node.func.attr for node in ast.walk(tree)
+                      if isinstance(node, ast.Call) and isinstance(node.func, ast.Attribute)}
+            self.assertEqual(called - let - own, set(), name)
+
     def test_no_generators_beside_own_equality(self):
         for name, tree in self.trees.items():
             self.assertFalse([node for node in ast.walk(tree) if isinstance(node, ast.GeneratorExp)], name)

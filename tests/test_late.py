@@ -3,7 +3,7 @@
 import unittest
 
 from cases import Refused
-from exact import LATE_400, LATE_401, SLOW
+from exact import COPIES, CROWD, LATE_400, LATE_401, SLOW
 from nameagain.errors import NoLot, TooMany
 from nameagain.habits import Habits
 from nameagain.late import late, late_paper, worst
@@ -171,6 +171,15 @@ class Refusals(Refused):
         for told in (late, late_paper, worst):
             self.refused(TooMany, 0, told, habits, lot)
             self.refused(NoLot, None, told, habits, lot[::-1])
+
+    def test_a_lot_met_of_more_than_300_stands_though_all_together_are_fewer_than_400(self):
+        plain = Plain(COPIES)
+        (crowd,) = plain.stands_heard(CROWD).values()
+        (after,) = plain.stands_heard(crowd).values()
+        self.assertEqual((len(crowd), len(after)), (361, 4))
+        for told in (late, late_paper, worst):
+            self.refused(TooMany, 0, told, COPIES, CROWD)
+        self.assertEqual(late(COPIES, (((-1, -1), CROWD[0][1][:5]),)), 3)
 
     def test_no_lot_ahead_of_too_many(self):
         for told in (late, late_paper, worst):

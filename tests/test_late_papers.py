@@ -4,7 +4,7 @@ import random
 import unittest
 
 from cases import Refused
-from exact import LATE_401, SLOW
+from exact import COPIES, CROWD, LATE_401, SLOW
 from nameagain.errors import NoLot, TooMany
 from nameagain.habits import Habits
 from nameagain.late import late, late_paper, shows_late, worst
@@ -90,7 +90,8 @@ class By(Refused):
         for more in (((NOTE,), 2), ((NOTE,), 77), ((EMPTY, SENT), 3), ((OLD,), 1), ((OLD,), 10 ** 79)):
             self.by(True, tuple(sorted(ROWS + (more,))))
         # Of these, too, each one that may come must be there, with fewer days.
-        for more in (((NOTE,), 1), ((OLD,), 0), ((EMPTY, SENT), 2), ((EMPTY, SENT), 0), ((SENT, NOTE), 4)):
+        for more in (((NOTE,), 1), ((OLD,), 0), ((EMPTY, SENT), 2), ((EMPTY, SENT), 0), ((SENT, NOTE), 4),
+                     ((NOTE,), -1), ((OLD,), -10 ** 79)):
             self.by(False, tuple(sorted(ROWS + (more,))))
         self.by(True, tuple(sorted(ROWS + (((SENT, NOTE), 4), ((EMPTY, NOTE, OLD), 2)))))
         self.by(True, tuple(sorted(ROWS + (((OLD,), 5), ((NOTE,), 2), ((NOTE, OLD), 3)))))
@@ -233,6 +234,18 @@ class By(Refused):
         # Nor is one let by that isn't needed.
         self.by(True, rows[:1], (), BARE, habits)
         self.by(False, rows[:1] + rows[2:], (), BARE, habits)
+
+    def test_lots_of_more_than_300_stands(self):
+        plain = Plain(COPIES)
+        (crowd,) = plain.stands_heard(CROWD).values()
+        crowd = tuple(sorted(crowd))
+        notes = plain.heard(crowd)[()]
+        rows = tuple(sorted([(CROWD, 3), (crowd, 2), (notes, 1), (plain.bare, 0)]))
+        self.by(False, rows, ROW, CROWD, COPIES)
+        self.by(False, tuple(row for row in rows if row[0] != crowd), ROW, CROWD, COPIES)
+        self.by(True, tuple(row for row in rows if row[1] < 2), ROW[:1], notes, COPIES)
+        # Nor where it's one that isn't needed.
+        self.by(False, tuple(row for row in rows if row[0] != crowd), ROW[:1], notes, COPIES)
 
     def test_chance_papers(self):
         chance = random.Random(16)
